@@ -1,0 +1,1 @@
+"""Oneroom: the newer text made in the room of the elder one."""
