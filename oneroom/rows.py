@@ -47,8 +47,11 @@ class Take(Row):
         step = self.to - self.source
         return [list(range(max(at - step, first), at)) for at in range(end, first, -step)]
 
+    def source_for(self, cell):
+        return self.source + cell - self.to
+
     def sign_for(self, cell, read):
-        return read(self.source + cell - self.to)
+        return read(self.source_for(cell))
 
     def cost(self):
         return 4

@@ -105,7 +105,8 @@ class Language(unittest.TestCase):
                     self.assertEqual(node.level, 0, stem)
                     self.assertTrue(node.module.startswith("oneroom."), (stem, node.module))
                     source = node.module.partition(".")[2]
-                    defined = {n.name for n in self.trees[source].body if hasattr(n, "name")}
+                    defined = {name for n in self.trees[source].body if not isinstance(n, ast.ImportFrom)
+                               for name in top_names(n)}
                     self.assertLessEqual({alias.name for alias in node.names}, defined, stem)
                     drawn[stem].add(source)
         while drawn:
@@ -183,9 +184,38 @@ class Language(unittest.TestCase):
         for where, node in self.walk(ast.Attribute):
             self.assertIn(node.attr, methods | values | METHODS | {"__init__"}, where)
 
+    def test_keywords(self):
+        allowed = {"sorted": {"key", "reverse"}, "min": {"key", "default"}, "max": {"key", "default"},
+                   "sum": {"start"}, "enumerate": {"start"}, "zip": {"strict"}}
+        for where, node in self.walk(ast.Call):
+            name = getattr(node.func, "id", "")
+            if name in BUILT_IN or getattr(node.func, "attr", "") in METHODS:
+                self.assertLessEqual({given.arg for given in node.keywords}, allowed.get(name, set()), where)
+
+    def test_texts(self):
+        for where, node in self.walk(ast.Constant):
+            if isinstance(node.value, str):
+                self.assertNotIn("%", node.value, where)
+        for where, node in self.walk(ast.FormattedValue):
+            self.assertIsInstance(node.value, ast.Name, where)
+            self.assertIsNone(node.format_spec, where)
+        for stem, source in self.sources.items():
+            self.assertEqual(re.findall(r"""\\[^nt\\'"]""", source), [], stem)
+
+    def test_tables_are_plain(self):
+        for stem, tree in self.trees.items():
+            for node in tree.body:
+                if isinstance(node, ast.Assign):
+                    for part in ast.walk(node.value):
+                        self.assertNotIsInstance(part, (ast.Call, ast.ListComp, ast.Lambda), stem)
+                        if part is not node.value:
+                            self.assertNotIsInstance(part, (ast.List, ast.Dict, ast.Set), stem)
+
     def test_errors_are_made_on_the_spot(self):
         for where, node in self.walk(ast.Raise):
             self.assertIsInstance(node.exc, ast.Call, where)
+            if node.cause is not None:
+                self.assertTrue(isinstance(node.cause, ast.Name) or node.cause.value is None, where)
         for where, node in self.walk(ast.ExceptHandler):
             self.assertIsNotNone(node.type, where)
             self.assertNotIn(getattr(node.type, "id", ""), ("Exception", "TypeError"), where)
